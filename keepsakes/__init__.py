@@ -1,0 +1,1 @@
+"""Keepsakes: a table kept through a long row of days."""

@@ -6,3 +6,6 @@ W = 18446744073709551615
 MOST_BLOCKS = 40
 
 MOST_FIGURES = 20
+
+# The greatest day of pieces that are made by hand.
+MOST_DAY = 1000000000

@@ -3,10 +3,10 @@
 import random
 import unittest
 
+from helping import Refusing, W
+
 from keepsakes.days import Days
 from keepsakes.errors import NoBlock, NoDay, NoPlace, NoTable
-
-W = 18446744073709551615
 
 
 def all_told(days):
@@ -14,13 +14,6 @@ def all_told(days):
     tables = [days.table(day) for day in numbers]
     places = [[days.written(one, other) for one in numbers] for other in numbers]
     return (days.wide, days.last, tables, places)
-
-
-class Refusing(unittest.TestCase):
-    def assert_refused(self, error, field, value, asked, *values):
-        with self.assertRaises(error) as caught:
-            asked(*values)
-        self.assertEqual(getattr(caught.exception, field), value)
 
 
 class Wide(Refusing):
@@ -32,7 +25,7 @@ class Wide(Refusing):
 
     def test_no_table(self):
         for wide in (0, 41, -1, -40, 42, 10 ** 30, -(10 ** 30), 2 ** 64, 10 ** 5000, -(10 ** 5000)):
-            self.assert_refused(NoTable, "wide", wide, Days, wide)
+            self.assert_refused(NoTable(wide), Days, wide)
 
     def test_two_rows_have_nothing_in_common(self):
         one, other = Days(2), Days(2)
@@ -77,26 +70,26 @@ class Passing(Refusing):
         for wide in (1, 3, 40):
             days = Days(wide)
             for place in (-1, wide, -wide, wide + 1, -(10 ** 30), 10 ** 30):
-                self.assert_refused(NoPlace, "place", place, days.passes, [(place, 0)])
+                self.assert_refused(NoPlace(place), days.passes, [(place, 0)])
 
     def test_no_block(self):
         days = Days(3)
         for block in (-1, W + 1, -(10 ** 30), 10 ** 30, -W):
-            self.assert_refused(NoBlock, "block", block, days.passes, [(2, block)])
+            self.assert_refused(NoBlock(block), days.passes, [(2, block)])
         days.passes([(0, 0), (1, W)])
         self.assertEqual(days.table(1), [0, W, 0])
 
     def test_place_ahead_of_block(self):
         days = Days(3)
-        self.assert_refused(NoPlace, "place", 3, days.passes, [(3, -1)])
-        self.assert_refused(NoPlace, "place", -1, days.passes, [(0, 1), (-1, W + 1), (7, 0)])
+        self.assert_refused(NoPlace(3), days.passes, [(3, -1)])
+        self.assert_refused(NoPlace(-1), days.passes, [(0, 1), (-1, W + 1), (7, 0)])
 
     def test_the_first_change_at_fault(self):
         days = Days(3)
-        self.assert_refused(NoBlock, "block", -5, days.passes, [(0, -5), (9, 0)])
-        self.assert_refused(NoPlace, "place", 9, days.passes, [(1, 1), (9, 0), (0, -5)])
-        self.assert_refused(NoBlock, "block", W + 2, days.passes, [(1, W + 2), (1, W + 1), (1, 1)])
-        self.assert_refused(NoPlace, "place", 5, days.passes, [(0, 0), (5, 0), (4, 0)])
+        self.assert_refused(NoBlock(-5), days.passes, [(0, -5), (9, 0)])
+        self.assert_refused(NoPlace(9), days.passes, [(1, 1), (9, 0), (0, -5)])
+        self.assert_refused(NoBlock(W + 2), days.passes, [(1, W + 2), (1, W + 1), (1, 1)])
+        self.assert_refused(NoPlace(5), days.passes, [(0, 0), (5, 0), (4, 0)])
 
     def test_a_refusal_changes_nothing(self):
         days = Days(3)
@@ -108,7 +101,7 @@ class Passing(Refusing):
                 days.passes(handed)
             self.assertEqual(handed, changes)
             self.assertEqual(all_told(days), before)
-            self.assert_refused(NoDay, "day", 2, days.table, 2)
+            self.assert_refused(NoDay(2), days.table, 2)
         self.assertEqual(days.passes([(1, 6)]), 2)
         self.assertEqual(days.table(2), [4, 6, 0])
         self.assertEqual(days.written(0, 2), [0, 1])
@@ -119,7 +112,7 @@ class Tables(Refusing):
         days = Days(2)
         for passed in range(3):
             for day in (-1, passed + 1, -2, -passed - 1, 10 ** 30, -(10 ** 30)):
-                self.assert_refused(NoDay, "day", day, days.table, day)
+                self.assert_refused(NoDay(day), days.table, day)
             days.passes([])
 
     def test_tables_stay_the_same(self):
@@ -197,14 +190,14 @@ class Written(Refusing):
     def test_no_day_of_one_ahead_of_other(self):
         days = Days(2)
         days.passes([])
-        self.assert_refused(NoDay, "day", 2, days.written, 2, 0)
-        self.assert_refused(NoDay, "day", 2, days.written, 0, 2)
-        self.assert_refused(NoDay, "day", -1, days.written, -1, 1)
-        self.assert_refused(NoDay, "day", -1, days.written, 1, -1)
-        self.assert_refused(NoDay, "day", 9, days.written, 9, -3)
-        self.assert_refused(NoDay, "day", -3, days.written, -3, 9)
-        self.assert_refused(NoDay, "day", 10 ** 30, days.written, 10 ** 30, 10 ** 31)
-        self.assert_refused(NoDay, "day", 5, days.written, 5, 5)
+        self.assert_refused(NoDay(2), days.written, 2, 0)
+        self.assert_refused(NoDay(2), days.written, 0, 2)
+        self.assert_refused(NoDay(-1), days.written, -1, 1)
+        self.assert_refused(NoDay(-1), days.written, 1, -1)
+        self.assert_refused(NoDay(9), days.written, 9, -3)
+        self.assert_refused(NoDay(-3), days.written, -3, 9)
+        self.assert_refused(NoDay(10 ** 30), days.written, 10 ** 30, 10 ** 31)
+        self.assert_refused(NoDay(5), days.written, 5, 5)
 
 
 class LongRows(unittest.TestCase):

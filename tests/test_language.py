@@ -29,6 +29,24 @@ NO_NAMES = set(
     " copyright credits delattr dir eval exec exit gc getattr globals hasattr help id importlib license locals"
     " methodcaller os quit setattr super type vars sys chr format format_map print".split())
 
+NO_VALUES = set(
+    "items keys values pop update append clear extend insert remove reverse setdefault sort args encode format".split())
+
+FREE_METHODS = OWN_METHODS | {"add", "discard"}
+
+FREE_VALUES = set("count index title find get join lower upper split strip copy add".split())
+
+PYTHONS_OWN = {name for kind in (str, int, list, tuple, dict, set, bytes, bool) for name in dir(kind)}
+
+KEYWORDS = {"sorted": {"key", "reverse"}, "min": {"key", "default"}, "max": {"key", "default"}, "sum": {"start"},
+            "enumerate": {"start"}, "zip": {"strict"}}
+
+WALKED = {"zip", "enumerate", "reversed", "range"}
+
+WALKERS = {"list", "tuple", "dict", "sorted", "sum", "any", "all", "enumerate", "zip", "min", "max"}
+
+CHANGING = {"append", "clear", "extend", "insert", "pop", "remove", "reverse", "setdefault", "update"}
+
 NO_FILES = {"test", "tests", "testing", "site", "conftest", "sitecustomize", "usercustomize"}
 
 NODES = (
@@ -67,6 +85,19 @@ def is_plain(node):
     if isinstance(node, ast.UnaryOp):
         return isinstance(node.op, ast.USub) and is_plain(node.operand)
     return isinstance(node, (ast.Constant, ast.Name))
+
+
+def called(node):
+    """The name of what is called, where it is a name or a method."""
+    if not isinstance(node, ast.Call):
+        return None
+    return node.func.id if isinstance(node.func, ast.Name) else getattr(node.func, "attr", None)
+
+
+def is_walker(node):
+    if called(node) in WALKED and isinstance(node.func, ast.Name):
+        return True
+    return called(node) in ("items", "keys", "values") and isinstance(node.func, ast.Attribute)
 
 
 class Form(unittest.TestCase):
@@ -160,6 +191,61 @@ class Form(unittest.TestCase):
         for path, node in nodes_of(ast.Call):
             if isinstance(node.func, ast.Attribute):
                 self.assertIn(node.func.attr, own | OWN_METHODS, self.at(path, node))
+
+    def test_names_of_methods_and_values(self):
+        for path, node in nodes_of(ast.ClassDef):
+            for part in node.body:
+                if isinstance(part, ast.FunctionDef) and part.name not in TWO_UNDERSCORES:
+                    self.assertFalse(part.name in PYTHONS_OWN - FREE_METHODS, self.at(path, part))
+        for path, node in nodes_of(ast.Attribute):
+            self.assertFalse(node.attr.startswith("_") and node.attr not in TWO_UNDERSCORES, self.at(path, node))
+            if isinstance(node.ctx, ast.Store):
+                self.assertFalse(node.attr in NO_VALUES | (PYTHONS_OWN - FREE_VALUES), self.at(path, node))
+
+    def test_no_local_is_called_like_a_class_or_an_import(self):
+        for path, tree in TREES.items():
+            taken = {node.name for node in tree.body if isinstance(node, ast.ClassDef)}
+            for node in tree.body:
+                if isinstance(node, ast.ImportFrom):
+                    taken.update(alias.asname or alias.name for alias in node.names)
+            for node in ast.walk(tree):
+                if isinstance(node, ast.arg):
+                    self.assertNotIn(node.arg, taken, self.at(path, node))
+                if isinstance(node, ast.Name) and isinstance(node.ctx, ast.Store):
+                    self.assertNotIn(node.id, taken, self.at(path, node))
+
+    def test_keywords(self):
+        own = {node.name for path, node in nodes_of(ast.FunctionDef, ast.ClassDef)}
+        for path, node in nodes_of(ast.Call):
+            told = {keyword.arg for keyword in node.keywords}
+            if called(node) not in own or called(node) in OWN_METHODS:
+                self.assertLessEqual(told, KEYWORDS.get(called(node), set()), self.at(path, node))
+
+    def test_walked_at_once(self):
+        walked = set()
+        for path, node in nodes_of(ast.For, ast.comprehension):
+            walked.add(id(node.iter))
+        for path, node in nodes_of(ast.Call):
+            if called(node) in WALKERS and isinstance(node.func, ast.Name):
+                walked.update(map(id, node.args))
+            if called(node) == "join":
+                walked.update(map(id, node.args))
+        for path, node in nodes_of(ast.Call):
+            if is_walker(node):
+                self.assertIn(id(node), walked, self.at(path, node))
+
+    def test_what_a_loop_walks_is_not_changed_in_it(self):
+        for path, loop in nodes_of(ast.For):
+            names = {ast.dump(node, include_attributes=False).replace("Store", "Load")
+                     for node in ast.walk(loop.iter) if isinstance(node, (ast.Name, ast.Attribute))}
+            for node in [node for part in loop.body for node in ast.walk(part)]:
+                changed = None
+                if isinstance(node, ast.Call) and isinstance(node.func, ast.Attribute) and node.func.attr in CHANGING:
+                    changed = node.func.value
+                if isinstance(node, ast.Subscript) and isinstance(node.ctx, ast.Store):
+                    changed = node.value
+                if changed is not None:
+                    self.assertNotIn(ast.dump(changed, include_attributes=False), names, self.at(path, node))
 
     def test_no_else_behind_a_loop_and_one_target(self):
         for path, node in nodes_of(ast.For, ast.While):

@@ -8,13 +8,16 @@ class Piece:
     def __init__(self, start, day, rows, check):
         self.day = day
         self.rows = tuple([(place, block) for place, block in rows])
-        self.check = check_of(start, day, self.rows) if check is None else check
+        fitting = check_of(start, day, self.rows)
+        self.check = fitting if check is None else check
+        # Whether it is good is asked again and again, and nothing of a piece ever changes.
+        self.fits = self.check == fitting
 
     def size(self):
         return len(self.rows)
 
     def is_good(self):
-        return self.check == check_of(self.start(), self.day, self.rows)
+        return self.fits
 
     def harmed(self, at, bits):
         # A row below 0 would be counted from the end, and isn't there all the same.

@@ -1,10 +1,31 @@
-"""What several tests ask for: refusals, what is told of pieces and shelves, and rows of days by chance."""
+"""What several tests ask for: refusals, what is told of pieces and shelves, and days, shelves and legs by chance."""
 
 import unittest
 
 from keepsakes.days import Days
+from keepsakes.pieces import Gain, Whole, gain_of, whole_of
+from keepsakes.shelves import Shelf
 
 W = 18446744073709551615
+
+
+class Draw:
+    """Numbers drawn by plain arithmetic, asked for as a random.Random is."""
+
+    def __init__(self, seed):
+        self.state = seed
+
+    def randrange(self, low, above=None):
+        self.state = (self.state * 6364136223846793005 + 1442695040888963407) % 2 ** 64
+        drawn = self.state >> 20
+        return drawn % low if above is None else low + drawn % (above - low)
+
+    def choice(self, things):
+        return things[self.randrange(len(things))]
+
+    def sample(self, things, many):
+        left = list(things)
+        return [left.pop(self.randrange(len(left))) for unused in range(many)]
 
 
 class Refusing(unittest.TestCase):
@@ -23,6 +44,13 @@ def lying_on(shelf):
     return (shelf.following(), [(number, told_of(shelf.piece(number))) for number in shelf.numbers()])
 
 
+def shelf_with(pieces):
+    shelf = Shelf()
+    for number, piece in pieces.items():
+        shelf.lay(number, piece)
+    return shelf
+
+
 def days_by_chance(chance, wide, many):
     days = Days(wide)
     for unused in range(many):
@@ -34,6 +62,22 @@ def days_by_chance(chance, wide, many):
             changes.append((place, days.table(days.last)[place]))
         days.passes(changes)
     return days
+
+
+def shelf_by_chance(chance, days=None):
+    shelf = Shelf()
+    last = days.last if days else 7
+    for unused in range(chance.randrange(13)):
+        day = chance.randrange(last + 1)
+        if day == 0 or chance.randrange(4) == 0:
+            piece = whole_of(days, day) if days else Whole(day, [(0, chance.randrange(9))])
+        else:
+            base = chance.randrange(day)
+            piece = gain_of(days, base, day) if days else Gain(base, day, [(0, chance.randrange(9))])
+        if piece.size() and chance.randrange(4) == 0:
+            piece = piece.harmed(chance.randrange(piece.size()), chance.randrange(1, W + 1))
+        shelf.lay(chance.randrange(40), piece)
+    return shelf
 
 
 def legs_by_chance(chance):
@@ -60,3 +104,22 @@ def all_ways_of_legs(legs, most=6):
         if len(way) < most:
             rows.extend(way + [leg] for leg in legs if leg[1] == way[-1][2])
     return found
+
+
+def told_by_definition(legs):
+    """The prices, last legs and told ways as point 6 says them, over all ways counted one by one."""
+    priced = {day: min(map(price_by_sums, ways)) for day, ways in all_ways_of_legs(legs).items()}
+    last = {}
+    for day in priced:
+        fitting = []
+        for leg in legs:
+            start = (0, 0, 0) if leg[1] == -1 else priced.get(leg[1])
+            if leg[2] == day and start and (start[0] + leg[3], start[1] + leg[4], start[2] + 1) == priced[day]:
+                fitting.append(leg)
+        last[day] = min(fitting)
+
+    def told_way(day):
+        start = last[day][1]
+        return ([] if start == -1 else told_way(start)) + [last[day][0]]
+
+    return (priced, {day: last[day][0] for day in priced}, {day: told_way(day) for day in priced})

@@ -3,32 +3,13 @@
 import random
 import unittest
 
-from helping import W, all_ways_of_legs, legs_by_chance, lying_on, price_by_sums
+from helping import W, all_ways_of_legs, legs_by_chance, lying_on, price_by_sums, told_by_definition
 
 from keepsakes.least import last_legs, legs_of, prices, rate, way_of
 from keepsakes.pieces import Gain, Whole
 from keepsakes.shelves import Shelf
 
 GREAT = 10 ** 30
-
-
-def told_by_definition(legs):
-    """The prices, last legs and told ways as point 6 says them, over all ways counted one by one."""
-    priced = {day: min(map(price_by_sums, ways)) for day, ways in all_ways_of_legs(legs).items()}
-    last = {}
-    for day in priced:
-        fitting = []
-        for leg in legs:
-            start = (0, 0, 0) if leg[1] == -1 else priced.get(leg[1])
-            if leg[2] == day and start and (start[0] + leg[3], start[1] + leg[4], start[2] + 1) == priced[day]:
-                fitting.append(leg)
-        last[day] = min(fitting)
-
-    def told_way(day):
-        start = last[day][1]
-        return ([] if start == -1 else told_way(start)) + [last[day][0]]
-
-    return (priced, {day: last[day][0] for day in priced}, {day: told_way(day) for day in priced})
 
 
 class Legs(unittest.TestCase):

@@ -3,19 +3,12 @@
 import random
 import unittest
 
-from helping import Refusing, W, days_by_chance, lying_on
+from helping import Refusing, W, days_by_chance, lying_on, shelf_by_chance, shelf_with
 
 from keepsakes.errors import BadPiece, NoPiece, NoWay
 from keepsakes.pieces import Gain, Whole, gain_of, whole_of
 from keepsakes.shelves import Shelf
 from keepsakes.ways import fetched, is_way, reached, way_to
-
-
-def shelf_with(pieces):
-    shelf = Shelf()
-    for number, piece in pieces.items():
-        shelf.lay(number, piece)
-    return shelf
 
 
 def small_shelf():
@@ -43,22 +36,6 @@ def all_ways(shelf, good=False):
                 found.setdefault(piece.day, []).append(way + [number])
                 row.append((way + [number], piece.day))
     return found
-
-
-def shelf_by_chance(chance, days=None):
-    shelf = Shelf()
-    last = days.last if days else 7
-    for unused in range(chance.randrange(13)):
-        day = chance.randrange(last + 1)
-        if day == 0 or chance.randrange(4) == 0:
-            piece = whole_of(days, day) if days else Whole(day, [(0, chance.randrange(9))])
-        else:
-            base = chance.randrange(day)
-            piece = gain_of(days, base, day) if days else Gain(base, day, [(0, chance.randrange(9))])
-        if piece.size() and chance.randrange(4) == 0:
-            piece = piece.harmed(chance.randrange(piece.size()), chance.randrange(1, W + 1))
-        shelf.lay(chance.randrange(40), piece)
-    return shelf
 
 
 class IsWay(unittest.TestCase):

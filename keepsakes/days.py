@@ -6,8 +6,7 @@ from keepsakes.errors import NoBlock, NoDay, NoPlace, NoTable
 
 class Days:
     def __init__(self, wide):
-        if wide < 1 or wide > MOST_BLOCKS:
-            raise NoTable(wide)
+        ask_wide(wide)
         self.wide = wide
         self.last = 0
         self.tables = [[0] * wide]
@@ -46,3 +45,8 @@ class Days:
     def ask_day(self, day):
         if day < 0 or day > self.last:
             raise NoDay(day)
+
+
+def ask_wide(wide):
+    if wide < 1 or wide > MOST_BLOCKS:
+        raise NoTable(wide)

@@ -1,10 +1,11 @@
-"""What several tests ask for: refusals, what is told of pieces and shelves, and days, shelves and legs by chance."""
+"""What several tests ask for: refusals, what is told of pieces and shelves, and days, shelves, legs and tasks drawn."""
 
 import unittest
 
 from keepsakes.days import Days
 from keepsakes.pieces import Gain, Whole, gain_of, whole_of
 from keepsakes.shelves import Shelf
+from keepsakes.tasks import Task
 
 W = 18446744073709551615
 
@@ -123,3 +124,97 @@ def told_by_definition(legs):
         return ([] if start == -1 else told_way(start)) + [last[day][0]]
 
     return (priced, {day: last[day][0] for day in priced}, {day: told_way(day) for day in priced})
+
+
+def priced_in_rounds(legs):
+    """The prices of all days, by going over all legs again and again until nothing gets less."""
+    found, before = {-1: (0, 0, 0)}, None
+    while found != before:
+        before = dict(found)
+        for number, start, day, bad, cost in legs:
+            if start in found:
+                price = (found[start][0] + bad, found[start][1] + cost, found[start][2] + 1)
+                found[day] = min(price, found.get(day, price))
+    found.pop(-1)
+    return found
+
+
+def sizes_drawn(draw, many, most):
+    return [[draw.randrange(most + 1) for unused in range(day + 1)] for day in range(many)]
+
+
+def task_drawn(draw, many, most=6):
+    weights = [draw.choice((0, 0, 1, draw.randrange(most + 1))) for unused in range(many)]
+    return Task(sizes_drawn(draw, many, most), weights, [draw.randrange(4) for unused in range(4)])
+
+
+def words_allowed(weight, ahead):
+    """Point 81, word by word."""
+    words = []
+    if weight == 0:
+        words.append("none")
+    words.append("whole")
+    if ahead.count("whole") > 0:
+        words.append("since")
+    if len(ahead) > ahead.count("none"):
+        words.append("last")
+    return words
+
+
+def beginnings_of(task, ahead=()):
+    """All beginnings that go on from one, itself too, in the order of point 84."""
+    found = [ahead]
+    if len(ahead) < len(task.sizes):
+        for word in words_allowed(task.weights[len(ahead)], ahead):
+            found.extend(beginnings_of(task, ahead + (word,)))
+    return found
+
+
+def plans_of(task):
+    return [choices for choices in beginnings_of(task) if len(choices) == len(task.sizes)]
+
+
+def base_by_words(choices, day):
+    at = day - 1
+    while choices[at] == "none" or (choices[day] == "since" and choices[at] != "whole"):
+        at -= 1
+    return at
+
+
+def size_by_words(task, choices, day):
+    if choices[day] == "whole":
+        return task.sizes[day][0]
+    return task.sizes[day][1 + base_by_words(choices, day)]
+
+
+def way_by_words(task, choices, day):
+    make, hold, seek, each = task.rates
+    cost = seek + each * size_by_words(task, choices, day)
+    if choices[day] != "whole":
+        cost += way_by_words(task, choices, base_by_words(choices, day))
+    return cost
+
+
+def day_by_words(task, choices, day):
+    make, hold, seek, each = task.rates
+    if choices[day] == "none":
+        return 0
+    return ((make + hold * (len(task.sizes) - day)) * size_by_words(task, choices, day)
+            + task.weights[day] * way_by_words(task, choices, day))
+
+
+def cost_by_words(task, choices):
+    """Point 82, word by word."""
+    return sum(day_by_words(task, choices, day) for day in range(len(choices)))
+
+
+def bound_by_words(task, choices):
+    """Point 83, word by word."""
+    make, hold, seek, each = task.rates
+    many = len(task.sizes)
+    bound = cost_by_words(task, choices)
+    for day in range(len(choices), many):
+        least = sorted(task.sizes[day])[0]
+        if task.weights[day] > 0:
+            bound += (make + hold * (many - day)) * least + task.weights[day] * (seek + each * least)
+    return bound

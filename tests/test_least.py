@@ -3,7 +3,8 @@
 import random
 import unittest
 
-from helping import W, all_ways_of_legs, legs_by_chance, lying_on, price_by_sums, told_by_definition
+from helping import (W, all_ways_of_legs, legs_by_chance, lying_on, price_by_sums, priced_in_rounds,
+                     told_by_definition)
 
 from keepsakes.least import last_legs, legs_of, prices, rate, way_of
 from keepsakes.pieces import Gain, Whole
@@ -154,7 +155,7 @@ class Least(unittest.TestCase):
                 start = chance.choice((-1, (day + chance.randrange(1, 60)) % 60, (day + 1) % 60))
                 legs.append((number, start, day, chance.randrange(2), chance.randrange(most + 1)))
             priced = prices(legs)
-            self.assertEqual(priced, self.priced_in_rounds(legs))
+            self.assertEqual(priced, priced_in_rounds(legs))
             self.assertEqual(sorted(last_legs(legs)), sorted(priced))
             by_number = {leg[0]: leg for leg in legs}
             for day in range(60):
@@ -162,16 +163,6 @@ class Least(unittest.TestCase):
                 self.assertEqual(way is None, day not in priced)
                 if way is not None:
                     self.assertEqual(price_by_sums([by_number[number] for number in way]), priced[day])
-
-    def priced_in_rounds(self, legs):
-        found = {-1: (0, 0, 0)}
-        for unused in range(70):
-            for number, start, day, bad, cost in legs:
-                if start in found:
-                    price = (found[start][0] + bad, found[start][1] + cost, found[start][2] + 1)
-                    found[day] = min(price, found.get(day, price))
-        found.pop(-1)
-        return found
 
     def test_a_long_row(self):
         legs = [(day, day - 1, day, 1, GREAT) for day in range(300)]
